@@ -1,0 +1,1 @@
+"""Newsflood: notes handed on from house to house."""
