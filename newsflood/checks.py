@@ -1,9 +1,11 @@
-"""Checks of what is handed in, for all files that take houses."""
+"""Checks of what is handed in, and the bounds that several files share."""
 
 from newsflood.errors import BadHouse
 
 FEWEST_HOUSES = 2
 MOST_HOUSES = 8
+LAST_DAY = 10000
+LONGEST_LIFE = 30
 
 
 def is_whole(value, low, high):
@@ -14,11 +16,16 @@ def is_whole(value, low, high):
     return low <= value <= high
 
 
-def is_pair(value, many):
-    """Whether it is a tuple of two houses' numbers."""
+def is_two(value, first, second):
+    """Whether it is a tuple of two numbers, from 0 to first and from 0 to second."""
     if not isinstance(value, tuple) or len(value) != 2:
         return False
-    return is_whole(value[0], 0, many - 1) and is_whole(value[1], 0, many - 1)
+    return is_whole(value[0], 0, first) and is_whole(value[1], 0, second)
+
+
+def is_pair(value, many):
+    """Whether it is a tuple of two houses' numbers."""
+    return is_two(value, many - 1, many - 1)
 
 
 def check_count(many):

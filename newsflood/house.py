@@ -17,12 +17,10 @@ came or was called back is never forgotten. So letters that are heard late,
 again or in another order do no harm.
 """
 
-from newsflood.checks import check_count, check_house, is_whole
+from newsflood.checks import LAST_DAY, LONGEST_LIFE, check_count, check_house, is_two, is_whole
 from newsflood.errors import BadDay, BadHouse, BadLetter, BadLife, BadWorth, NotOwn
 
-LAST_DAY = 10000
 MOST_WORTH = 999
-LONGEST_LIFE = 30
 
 NEWS = "news"
 REPLY = "reply"
@@ -68,6 +66,10 @@ class House:
             raise BadDay(f"a day behind {self._today}, to {LAST_DAY}, is wanted")
         self._today = number
         self._there = {mark: kept for mark, kept in self._there.items() if kept[1] > number}
+
+    def today(self):
+        """Tell its day."""
+        return self._today
 
     def write(self, worth, life):
         """Write a note and tell its mark."""
@@ -196,10 +198,7 @@ class House:
 
     def _is_own(self, mark):
         """Whether it is the mark of a note that the house wrote."""
-        if not isinstance(mark, tuple) or len(mark) != 2:
-            return False
-        house, number = mark
-        return is_whole(house, self._number, self._number) and is_whole(number, 0, self._next_number - 1)
+        return is_two(mark, self._number, self._next_number - 1) and mark[0] == self._number
 
     def _check_other(self, other):
         """Refuse what is no other house."""

@@ -25,7 +25,8 @@ class Houses(unittest.TestCase):
                 self.assertEqual(state(House(number, many)), ([], [], 0, []))
 
     def test_refused_counts_and_numbers(self):
-        for number, many in ((0, 1), (0, 9), (0, 0), (0, -2), (2, 2), (8, 8), (-1, 8), (9, 9),
+        for number, many in ((0, 1), (0, 9), (0, 0), (0, -2), (0, 100), (0, 10 ** 9), (2, 2), (8, 8),
+                             (-1, 8), (-8, 8), (99, 8), (10 ** 9, 8), (9, 9), (1, 1), (-1, -1),
                              (0, True), (True, 2), (False, 2)):
             with self.subTest((number, many)), self.assertRaises(BadHouse) as caught:
                 House(number, many)
@@ -41,7 +42,7 @@ class Houses(unittest.TestCase):
         house = House(1, 3)
         house.tie(0)
         house.write(5, 5)
-        for other in (-1, 3, 1, True):
+        for other in (-1, -3, 3, 4, 99, 10 ** 9, 1, True, False):
             self.refuses(BadHouse, house, "tie", other)
             self.refuses(BadHouse, house, "untie", other)
 
@@ -77,7 +78,7 @@ class Houses(unittest.TestCase):
         house.day(1)
         self.refuses(BadDay, house, "day", 1)
         house.day(20)
-        for day in (20, 19, 0, -1, 10001, True):
+        for day in (20, 19, 0, -1, -99, 10001, 10002, 10 ** 9, True):
             self.refuses(BadDay, house, "day", day)
         self.assertEqual(house.notes(), [((0, 0), 5)])
         house.day(9999)
@@ -117,11 +118,13 @@ class Houses(unittest.TestCase):
         house.write(0, 1)
         house.write(999, 30)
         self.assertEqual(house.notes(), [((0, 0), 0), ((0, 1), 999)])
-        for worth in (-1, 1000, True):
+        for worth in (-1, -99, 1000, 1001, 10 ** 9, True):
             self.refuses(BadWorth, house, "write", worth, 1)
-        for life in (0, 31, -1, True):
+            # The worth is handed in first.
+            for life in (0, 31, 10 ** 9):
+                self.refuses(BadWorth, house, "write", worth, life)
+        for life in (0, 31, 32, -1, 10 ** 9, True):
             self.refuses(BadLife, house, "write", 0, life)
-        self.refuses(BadWorth, house, "write", 1000, 31)
         self.assertEqual(house.write(1, 1), (0, 2))
 
     def test_the_end_is_by_the_day(self):
@@ -185,7 +188,8 @@ class Houses(unittest.TestCase):
         house.write(1, 5)
         house.write(2, 5)
         for mark in ((1, 2), (1, -1), (0, 0), (2, 0), (3, 0), (-1, 0), (), (1,), (1, 0, 0),
-                     ((1, 0),), ((1, 0), 0), (1, (0,)), ((), ()), (True, 0), (1, True)):
+                     ((1, 0),), ((1, 0), 0), (1, (0,)), ((), ()), (True, 0), (1, True),
+                     (1, 10 ** 9), (1, -2), (10 ** 9, 0), ((1, 0), (1, 0))):
             self.refuses(NotOwn, house, "call_back", mark)
         self.assertEqual(len(house.notes()), 2)
         house.call_back((1, 1))

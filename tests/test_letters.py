@@ -157,7 +157,8 @@ class Letters(unittest.TestCase):
         letter = houses[0].letters()[0]
         answer = houses[1].hear(letter)[0]
         for house, wrong in ((houses[0], letter), (houses[1], answer),
-                             (houses[1], (2, letter[1])), (houses[1], (-1, letter[1]))):
+                             (houses[1], (2, letter[1])), (houses[1], (-1, letter[1])),
+                             (houses[1], (99, letter[1])), (houses[1], (0, answer[1]))):
             before = state(house)
             with self.assertRaises(BadLetter) as caught:
                 house.hear(wrong)

@@ -8,12 +8,12 @@ import unittest
 from newsflood.errors import BadHouse, BadRow, BadTies, NoWay
 from newsflood.ties import least, rounds, shows
 
-WRONG_COUNTS = (1, 9, 0, -1, True)
-WRONG_HOUSES = (-1, 4, 9, True)
-WRONG_TIES = ((0, 0), (3, 3), (0, 4), (4, 0), (-1, 0), (0, -1), (), (0,), (0, 1, 2),
-              ((0, 1), 2), (0, (1,)), (True, 2))
-WRONG_ROWS = ((0, 4), (4, 0), (-1, 0), (0, -1), (), (1,), (0, 1, 2), ((0, 1),), ((0, 1), 2),
-              (0, ()), (0, True))
+WRONG_COUNTS = (1, 9, 0, -1, -8, 100, 10 ** 9, True)
+WRONG_HOUSES = (-1, -4, 4, 5, 9, 10 ** 9, True)
+WRONG_TIES = ((0, 0), (3, 3), (0, 4), (4, 0), (-1, 0), (0, -1), (10 ** 9, 0), (0, 10 ** 9), (4, 4),
+              (-1, -1), (), (0,), (0, 1, 2), ((0, 1), 2), (0, (1,)), (True, 2))
+WRONG_ROWS = ((0, 4), (4, 0), (-1, 0), (0, -1), (10 ** 9, 0), (0, 10 ** 9), (), (1,), (0, 1, 2),
+              ((0, 1),), ((0, 1), 2), (0, ()), (0, True))
 
 
 def line(many):
@@ -117,6 +117,8 @@ class Rounds(Refusing):
         self.refuses_count_and_ties(rounds, 99)
         for start in WRONG_HOUSES:
             self.refuses(BadHouse, rounds, 4, [(0, 1)], start)
+            self.refuses(BadTies, rounds, 4, [(0, 0)], start)
+            self.refuses(BadHouse, rounds, 9, [(0, 0)], start)
 
     def test_arguments_are_unchanged_and_the_same_is_told_again(self):
         ties = [(2, 1), (0, 1)]
@@ -189,6 +191,10 @@ class Least(Refusing):
             self.refuses(BadHouse, least, 4, [], [0, house], [1])
             self.refuses(BadHouse, least, 4, [], [0], [1, house])
             self.refuses(BadHouse, least, 4, [], [], [house])
+            # There would be no way, either.
+            self.refuses(BadHouse, least, 4, [], [0], [3, house])
+            self.refuses(BadHouse, least, 4, [], [house], [3])
+            self.refuses(BadTies, least, 4, [(0, 0)], [house], [house])
 
 
 class Shows(Refusing):
